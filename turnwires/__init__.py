@@ -1,0 +1,1 @@
+"""Turnwires: words of unknown one-to-one wires, compared for every size."""
