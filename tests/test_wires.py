@@ -185,10 +185,8 @@ class WiresTest(unittest.TestCase):
     def test_order(self):
         for wire in WIRES:
             same = Wire(wire.size, [])
-            k, power = 1, wire
-            while power != same:
-                k, power = k + 1, power >> wire
-            self.assertEqual(wire.order(), k)
+            powers = list(itertools.accumulate([wire] * 6, lambda power, more: power >> more))
+            self.assertEqual(wire.order(), powers.index(same) + 1)
 
     def test_order_of_many_lengths(self):
         rings, start = [], 0
