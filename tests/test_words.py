@@ -5,6 +5,7 @@ import itertools
 import unittest
 from unittest import mock
 
+from tests.helpers import Raising, fillings
 from turnwires.errors import (
     NoKind, NoMost, NoName, NoPart, NoRing, NoSize, TwoKinds, Unfilled, WrongKind, WrongSize,
 )
@@ -15,39 +16,6 @@ A, B = Word.hole("a"), Word.hole("b")
 S, M = Word.hole("s", "swaps"), Word.hole("m", "mirror")
 C, D = Word.known([[0, 1]]), Word.known([[2, 1], [4, 3]])
 KINDS = {"m": "mirror", "a": "wire", "t": "swaps 2", "b": "wire", "s": "swaps"}
-
-
-def wires_of_size(size):
-    return [Wire.read(text) for text in texts_of_size(size)]
-
-
-def texts_of_size(size):
-    for images in itertools.permutations(range(size)):
-        rings, seen = "", set()
-        for place in range(size):
-            ring = []
-            while place not in seen:
-                seen.add(place)
-                ring.append(place)
-                place = images[place]
-            if len(ring) > 1:
-                rings += "(" + ",".join(map(str, ring)) + ")"
-        yield f"{size} {rings or '()'}"
-
-
-def fillings(size, kinds):
-    """Return all fillings of this size of holes of these kinds."""
-    rows = []
-    for kind in kinds.values():
-        wires = wires_of_size(size)
-        if kind != "wire":
-            wires = [wire for wire in wires if wire >> wire == Wire(size, [])]
-        if kind == "mirror":
-            wires = [wire for wire in wires if all(wire[place] != place for place in range(size))]
-        if kind.startswith("swaps "):
-            wires = [wire for wire in wires if len(wire.rings()) <= int(kind.split()[1])]
-        rows.append(wires)
-    return [dict(zip(kinds, row)) for row in itertools.product(*rows)]
 
 
 def led(texts, kinds, size, wires):
@@ -94,14 +62,6 @@ def row_text(row):
     rings = {(1, 0, 2): "(0,1)", (0, 2, 1): "(1,2)", (2, 1, 0): "(0,2)", (1, 2, 0): "(0,1,2)", (2, 0, 1): "(0,2,1)"}
     texts = [rings[part] if part in rings else part if KINDS[part[-1]] == "wire" else part[-1] for part in row]
     return " ".join(texts) or "()"
-
-
-class Raising(unittest.TestCase):
-    def raises(self, error, attribute, value, call, *arguments, **more):
-        with self.assertRaises(error) as caught:
-            call(*arguments, **more)
-        self.assertIs(caught.exception.__class__, error)
-        self.assertEqual(getattr(caught.exception, attribute), value)
 
 
 class HolesTest(Raising):

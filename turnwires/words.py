@@ -203,6 +203,12 @@ def fits(size, words, numbers=()):
     return size % 2 == 0 or not any(["mirror" in list(word.kinds.values()) for word in words])
 
 
+def least_size(words, numbers=()):
+    """Return the least size that fits the words and the numbers."""
+    size = max([0, *numbers, *[place for word in words for place in word.named]]) + 1
+    return size if fits(size, words, numbers) else size + 1
+
+
 def is_name(text):
     """Tell if the text has 1 to 8 letters from a to z."""
     return 1 <= len(text) <= 8 and all(["a" <= letter <= "z" for letter in text])
