@@ -32,6 +32,7 @@ PAIRS = [
     ("o (0,1,2) o (0,1,2) o (0,1,2) o (0,1,2) o (0,1,2) o (0,1,2) o (0,1,2) o (0,1,2) o (0,1,2) o (0,1,2)"
      " o (0,1,2) o (0,1,2)", "()"),
     ("o (0,1,2) o (0,1,2) o (0,1,2) o (0,1,2) o (0,1,2) o (0,1,2)", "()"),
+    ("a (0,1) ~a (1,2) a (0,1,2)", "()"), ("a a (0,1,2) ~a ~a (0,1)", "()"),
 ]
 TEXTS = sorted({text for pair in PAIRS for text in pair})
 
@@ -170,7 +171,8 @@ class PartingTest(Raising):
             ((C >> M) ** 4, M >> C >> M >> C, 4),
             ((ONE >> Word.known([[0, 1, 2]])) ** 6, SAME, 4), ((ONE >> Word.known([[0, 1, 2]])) ** 4, SAME, 3),
             ((TWO >> C >> TWO >> C) ** 3, SAME, 4), ((S >> C >> S >> C) ** 3, SAME, 4), ((M >> C) ** 2, SAME, 4),
-            (B >> A >> ~B, A, 3),
+            (B >> A >> ~B, A, 3), (word_of("a (0,1) ~a (1,2) a (0,1,2)"), SAME, 3),
+            (word_of("a a (2,1,0) ~a"), word_of("(0,1) a"), 3),
         ]:
             with self.subTest(p=str(p), q=str(q)):
                 self.assertEqual(self.check(p, q), size)

@@ -122,6 +122,12 @@ class BranchesTest(unittest.TestCase):
         self.assertEqual([way.end for way in ways(A >> Word.known([[0, 3], [1, 4]]), 5)], [3, 4, 0, 1, 5, 2])
         self.assertEqual([way.end for way in ways(A >> B, 1)], [1, 0, 0, 1, 2])
 
+    def test_seen_places_come_in_ascending_order(self):
+        known = Word.known([[8, 59], [33, 2, 1]])
+        self.assertEqual([told(way) for way in ways(known >> A, 16)], [
+            (place, 60, {"a": [(16, place)]}) for place in (1, 2, 8, 16, 33, 59, 0)
+        ])
+
     def test_named_places_of_the_one_form_alone_are_seen(self):
         self.assertEqual([way.end for way in ways(C >> C >> A, 3)], [3, 0])
         self.assertEqual([way.end for way in ways(A >> Word.known([[5, 6]]), 0)], [0, 6, 5, 1])

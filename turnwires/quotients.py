@@ -139,10 +139,10 @@ def primitive(row):
 
 
 def common(one, other):
-    """Return the greatest common divisor of two polynomials that are not both 0, of the content 1."""
+    """Return the greatest common divisor, of the content 1, of two polynomials, the other not 0."""
     one, other = primitive(one), primitive(other)
-    if not one or not other:
-        return one or other
+    if not one:
+        return other
     if len(one) == 1 or len(other) == 1:
         return [1]
     # Its value at n divides both values there. So the greatest common divisor of these is

@@ -21,8 +21,8 @@ class Trail:
     for swaps and mirrors have one turn each, and their pairs stand in its dict both ways.
     """
 
-    def __init__(self, step, place, more, leads):
-        self.step = step
+    def __init__(self, behind, place, more, leads):
+        self.behind = behind
         self.place = place
         self.more = more
         self.leads = leads
@@ -52,17 +52,17 @@ class Walk:
 
     def is_done(self, trail):
         """Tell if the trail has all parts behind it."""
-        return trail.step == len(self.turns)
+        return trail.behind == len(self.turns)
 
     def led_on(self, trail):
         """Lead the trail on as long as there is nothing to choose, and return it."""
-        for step in range(trail.step, len(self.turns)):
+        for step in range(trail.behind, len(self.turns)):
             turn = self.turns[step]
             if turn and trail.place not in trail.leads[turn]:
                 break
             moves = trail.leads[turn] if turn else self.word.parts[step].moves
             trail.place = moves.get(trail.place, trail.place)
-            trail.step = step + 1
+            trail.behind = step + 1
         return trail
 
     def branches(self, trail):
@@ -71,7 +71,7 @@ class Walk:
 
     def choices(self, trail):
         """Return the places to which the next hole can lead the trail, a new number last."""
-        turn = self.turns[trail.step]
+        turn = self.turns[trail.behind]
         taken = trail.leads[self.opposites[turn]]
         places = [*self.seen[trail.more], self.news[trail.more]]
         free = [place for place in places if place not in taken]
@@ -84,13 +84,13 @@ class Walk:
 
     def led_to(self, trail, place):
         """Return the trail that goes on when the next hole leads this one to the place."""
-        turn = self.turns[trail.step]
+        turn = self.turns[trail.behind]
         opposite = self.opposites[turn]
         leads = dict(trail.leads)
         leads[turn] = {**leads[turn], trail.place: place}
         leads[opposite] = {**leads[opposite], place: trail.place}
         more = trail.more + 1 if place == self.news[trail.more] else trail.more
-        return self.led_on(Trail(trail.step + 1, place, more, leads))
+        return self.led_on(Trail(trail.behind + 1, place, more, leads))
 
     def fixed_by(self, trail):
         """Return the pairs of places that the trail has fixed, by the names of the holes."""
