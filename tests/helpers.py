@@ -1,7 +1,9 @@
 """What several files of tests need: fillings of small sizes, and checks of errors."""
 
 import itertools
+import math
 import unittest
+from fractions import Fraction
 
 from turnwires.wires import Wire
 
@@ -56,3 +58,21 @@ class Raising(unittest.TestCase):
         self.assertIs(caught.exception.__class__, error)
         if attribute:
             self.assertEqual(getattr(caught.exception, attribute), value)
+
+
+def value_of(quotient, size):
+    """Return the value of a quotient at a size, as a fraction."""
+    return Fraction(*quotient.at(size))
+
+
+def all_kinds(words):
+    """Return the kinds of the holes of all words, in the order of the names."""
+    kinds = {}
+    for word in words:
+        kinds.update(word.kinds)
+    return {name: kinds[name] for name in sorted(kinds)}
+
+
+def fillings_count(size, kinds):
+    """Return how many fillings `fillings` would return, or more."""
+    return math.factorial(size) ** len(kinds)

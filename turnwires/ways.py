@@ -43,8 +43,12 @@ class Walk:
         self.seen = [sorted(set([*word.named, start]))]
         self.news = [least_unseen(self.seen[0])]
         for _ in range(len(word)):
-            self.seen.append(sorted([*self.seen[-1], self.news[-1]]))
-            self.news.append(least_unseen(self.seen[-1]))
+            self.see_one_more()
+
+    def see_one_more(self):
+        """Get ready for trails that see one new number more."""
+        self.seen.append(sorted([*self.seen[-1], self.news[-1]]))
+        self.news.append(least_unseen(self.seen[-1]))
 
     def begun(self):
         """Return the trail that stands at the start, before its first choice."""
@@ -53,6 +57,10 @@ class Walk:
     def is_done(self, trail):
         """Tell if the trail has all parts behind it."""
         return trail.behind == len(self.turns)
+
+    def turn_before(self, trail):
+        """Return the turn of the next part, "" for a known wire."""
+        return self.turns[trail.behind]
 
     def led_on(self, trail):
         """Lead the trail on as long as there is nothing to choose, and return it."""
@@ -71,7 +79,7 @@ class Walk:
 
     def choices(self, trail):
         """Return the places to which the next hole can lead the trail, a new number last."""
-        turn = self.turns[trail.behind]
+        turn = self.turn_before(trail)
         taken = trail.leads[self.opposites[turn]]
         places = [*self.seen[trail.more], self.news[trail.more]]
         free = [place for place in places if place not in taken]
@@ -84,7 +92,7 @@ class Walk:
 
     def led_to(self, trail, place):
         """Return the trail that goes on when the next hole leads this one to the place."""
-        turn = self.turns[trail.behind]
+        turn = self.turn_before(trail)
         opposite = self.opposites[turn]
         leads = dict(trail.leads)
         leads[turn] = {**leads[turn], trail.place: place}
@@ -143,8 +151,12 @@ def opposites_of(word):
 def is_full(leads, kind):
     """Tell if as many pairs are fixed as swaps of this kind have at most."""
     most = bound_of(kind)
-    pairs = [place for place, image in leads.items() if place < image]
-    return most is not None and len(pairs) >= most
+    return most is not None and pairs_in(leads) >= most
+
+
+def pairs_in(leads):
+    """Return how many pairs of places that change places are fixed for swaps or a mirror."""
+    return len([place for place, image in leads.items() if place < image])
 
 
 def least_unseen(places):
