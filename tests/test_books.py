@@ -2,6 +2,7 @@
 
 import itertools
 import math
+import random
 import time
 import unittest
 from fractions import Fraction
@@ -22,16 +23,19 @@ SAME = Word.same()
 KINDS = {"a": "wire", "b": "wire", "c": "wire", "d": "wire", "s": "swaps", "r": "swaps", "m": "mirror", "n": "mirror",
          "z": "swaps 0", "o": "swaps 1", "p": "swaps 1", "t": "swaps 2", "u": "swaps 3", "v": "swaps 3"}
 BOOKS = [
-    [], [("()", 0, 0)], [("()", 2, 1)], [("(0,3)", 3, 0)], [("(0,3)", 0, 0)], [("a", 0, 0)], [("a", 0, 1)], [("~a", 0, 2)],
+    [], [("()", 0, 0)], [("()", 2, 1)], [("(0,3)", 3, 0)], [("(0,3)", 0, 0)], [("a", 0, 0)], [("a", 0, 1)],
+    [("~a", 0, 2)],
     [("a", 0, 1), ("a", 0, 1)], [("a", 0, 1), ("a", 0, 2)], [("a", 0, 1), ("a", 2, 1)], [("a a", 0, 0), ("a", 0, 1)],
     [("a a", 0, 1)], [("a a a", 0, 0), ("a", 1, 1)], [("a (0,1) a", 0, 1)], [("~a (0,1) a", 0, 2), ("a", 3, 0)],
     [("a a a a", 0, 1), ("a a a", 1, 0)], [("a b", 0, 0), ("b a", 0, 1)], [("~a b a", 0, 1), ("b", 2, 2)],
     [("a b ~a ~b", 0, 1)], [("a", 0, 1), ("b", 0, 2), ("a ~b", 3, 3)], [("s", 0, 1)], [("s", 0, 0), ("s", 1, 0)],
-    [("s (0,1) s", 0, 1)], [("s (0,1,2) s", 0, 0), ("s", 3, 1)], [("s a", 0, 0), ("a s", 1, 2)], [("m", 0, 0)], [("m", 0, 2)],
+    [("s (0,1) s", 0, 1)], [("s (0,1,2) s", 0, 0), ("s", 3, 1)], [("s a", 0, 0), ("a s", 1, 2)], [("m", 0, 0)],
+    [("m", 0, 2)],
     [("m (0,1) m", 0, 0)], [("m (0,1) m", 0, 1), ("m", 2, 3)], [("m n", 0, 1)], [("m n", 0, 0), ("n", 1, 2)],
     [("m a", 0, 0), ("a", 1, 0)], [("z", 0, 0)], [("z", 0, 1)], [("o", 0, 1), ("o", 2, 3)], [("o (0,1,2) o", 0, 0)],
     [("o", 0, 1), ("o", 2, 2)], [("t", 0, 1), ("t", 2, 3), ("t", 4, 4)], [("t", 0, 1), ("t", 2, 3), ("t", 4, 5)],
-    [("t (0,1) t", 0, 2)], [("o t", 0, 1), ("t o", 0, 2)], [("u (0,2) u", 0, 1), ("u", 3, 4)], [("o s", 0, 1), ("s", 1, 2)],
+    [("t (0,1) t", 0, 2)], [("o t", 0, 1), ("t o", 0, 2)], [("u (0,2) u", 0, 1), ("u", 3, 4)],
+    [("o s", 0, 1), ("s", 1, 2)],
     [("a", 0, 1), ("b", 0, 1), ("a b", 2, 2), ("~a b", 1, 1)], [("a (0,1) b", 0, 0), ("b (0,2) a", 0, 0)],
 ]
 
@@ -103,7 +107,8 @@ class SightingsTest(Raising):
         book = book_of([("a", 0, 1), ("t s", 0, 0), ("m", 1, 2)])
         for word, name in [
             (Word.hole("a", "mirror"), "a"), (Word.hole("a", "swaps") >> Word.hole("m"), "a"), (Word.hole("t"), "t"),
-            (Word.hole("t", "swaps", most=3), "t"), (Word.hole("t", "swaps"), "t"), (Word.hole("s", "swaps", most=2), "s"),
+            (Word.hole("t", "swaps", most=3), "t"), (Word.hole("t", "swaps"), "t"),
+            (Word.hole("s", "swaps", most=2), "s"),
             (B >> Word.hole("s") >> Word.hole("m", "swaps"), "m"), (Word.hole("t") >> Word.hole("s"), "s"),
         ]:
             self.raises(TwoKinds, "name", name, book.saw, word, 0, 0)
@@ -223,7 +228,8 @@ class ShareTest(Raising):
     def test_told_shares(self):
         for rows, text in [
             ([], "1"), ([("a", 0, 1)], "(1)/(n)"), ([("a", 0, 1), ("b", 0, 1)], "(1)/(n^2)"),
-            ([("a", 0, 1), ("a", 1, 0)], "(1)/(n^2 - n)"), ([("a", 0, 1), ("a", 0, 2)], "0"), ([("m", 0, 1)], "(1)/(n - 1)"),
+            ([("a", 0, 1), ("a", 1, 0)], "(1)/(n^2 - n)"), ([("a", 0, 1), ("a", 0, 2)], "0"),
+            ([("m", 0, 1)], "(1)/(n - 1)"),
             ([("m", 0, 1), ("m", 2, 3)], "(1)/(n^2 - 4*n + 3)"), ([("o", 0, 1)], "(2)/(n^2 - n + 2)"),
         ]:
             self.assertEqual(str(book_of(rows).share()), text)
@@ -235,8 +241,10 @@ class ShareTest(Raising):
 
     def test_reach(self):
         for rows, size in [
-            ([], 1), ([("a", 0, 0)], 1), ([("a", 0, 0), ("a a", 0, 0)], 3), ([("a b", 0, 0), ("~a b", 0, 1), ("a", 1, 1)], 3),
-            ([("a", 0, 9)], 10), ([("a", 8, 0)], 9), ([("(4,5)", 0, 0), ("a", 0, 1)], 6), ([("a a a a a a a", 0, 1)], 7),
+            ([], 1), ([("a", 0, 0)], 1), ([("a", 0, 0), ("a a", 0, 0)], 3),
+            ([("a b", 0, 0), ("~a b", 0, 1), ("a", 1, 1)], 3),
+            ([("a", 0, 9)], 10), ([("a", 8, 0)], 9), ([("(4,5)", 0, 0), ("a", 0, 1)], 6),
+            ([("a a a a a a a", 0, 1)], 7),
         ]:
             self.assertEqual(book_of(rows).reach(), size)
 
@@ -246,15 +254,49 @@ class ShareTest(Raising):
             self.raises(NoShare, "name", name, book_of(rows).share)
 
 
+class RandomBooksTest(unittest.TestCase):
+    """Points 23 and 24, for books that nobody thought of."""
+
+    def word(self, numbers, names):
+        parts = []
+        for _ in range(numbers.randint(0, 4)):
+            if numbers.random() < 0.5:
+                places = numbers.sample(range(4), numbers.randint(2, 3))
+                parts.append("(" + ",".join(map(str, places)) + ")")
+            parts.append(numbers.choice(["", "~"]) + numbers.choice(names))
+        return " ".join(parts or ["()"])
+
+    def test_all_fillings_of_small_sizes(self):
+        numbers = random.Random(7)
+        for _ in range(150):
+            names = numbers.choice(["a", "ab", "as", "ao", "am", "st", "om", "op", "az", "mn", "t", "s"])
+            rows = [(self.word(numbers, names), numbers.randrange(4), numbers.randrange(4))
+                    for _ in range(numbers.randint(1, 4))]
+            book = book_of(rows)
+            kinds = all_kinds([word for word, _, _ in sightings(book)])
+            quotient = None if "swaps" in kinds.values() else book.share()
+            for size, wires in tried(book, most=600):
+                found = in_order([filling for filling in wires if kept(book, filling, size)], kinds)
+                with self.subTest(rows=rows, size=size):
+                    self.assertEqual(book.many(size), len(found))
+                    self.assertEqual(book.fits(size), found)
+                    self.assertIs(bool(found), book.least() is not None and book.least() <= size)
+                    if quotient is not None and size >= book.reach():
+                        self.assertEqual(value_of(quotient, size), Fraction(len(found), len(wires)))
+
+
 class SureTest(Raising):
     """Point 24."""
 
     def test_told_places(self):
         for rows, text, start, place in [
-            ([], "()", 3, 3), ([], "(0,1)", 0, 1), ([], "a", 0, None), ([("a", 0, 1)], "a", 0, 1), ([("a", 0, 1)], "~a", 1, 0),
+            ([], "()", 3, 3), ([], "(0,1)", 0, 1), ([], "a", 0, None), ([("a", 0, 1)], "a", 0, 1),
+            ([("a", 0, 1)], "~a", 1, 0),
             ([("a", 0, 1)], "a", 1, None), ([("a", 0, 1), ("a a", 0, 0)], "a", 1, 0), ([("a", 0, 1)], "b ~b a", 0, 1),
-            ([("a", 0, 1)], "b", 0, None), ([("a", 0, 1), ("a", 0, 2)], "a", 0, None), ([("a", 0, 1), ("a", 0, 2)], "()", 0, None),
-            ([("o", 0, 1)], "o", 5, 5), ([("o", 0, 1)], "o (0,1) o", 0, 1), ([("m", 0, 1)], "m", 1, 0), ([("m", 0, 1)], "m", 2, None),
+            ([("a", 0, 1)], "b", 0, None), ([("a", 0, 1), ("a", 0, 2)], "a", 0, None),
+            ([("a", 0, 1), ("a", 0, 2)], "()", 0, None),
+            ([("o", 0, 1)], "o", 5, 5), ([("o", 0, 1)], "o (0,1) o", 0, 1), ([("m", 0, 1)], "m", 1, 0),
+            ([("m", 0, 1)], "m", 2, None),
             ([("z", 0, 0)], "z", 7, 7), ([], "z", 7, 7), ([("a b", 0, 1), ("a", 0, 2)], "b", 2, 1), ([], "m m", 4, 4),
             ([("a a a", 0, 1), ("a a", 0, 0)], "a", 0, 1), ([("a a a", 0, 0), ("a a", 0, 0)], "a", 0, 0),
         ]:
@@ -283,8 +325,13 @@ class SureTest(Raising):
                 met |= ends
                 with self.subTest(rows=rows, text=text, start=start, size=size):
                     self.assertEqual(book.sure(word, start, size), ends.pop() if len(ends) == 1 else None)
-            with self.subTest(rows=rows, text=text, start=start):
-                self.assertIn(book.sure(word, start), [None] if len(met) > 1 else [None, *met] if met else [None, 0, 1, 2, 3, 4])
+            # What is told for all sizes holds at these small ones.
+            if len(met) > 1:
+                with self.subTest(rows=rows, text=text, start=start):
+                    self.assertIsNone(book.sure(word, start))
+            elif met and book.sure(word, start) is not None:
+                with self.subTest(rows=rows, text=text, start=start):
+                    self.assertEqual(book.sure(word, start), met.pop())
 
     def test_the_place_of_all_sizes_is_that_of_each_size(self):
         for rows, text, start in itertools.product(BOOKS, ("a", "s", "m", "t", "(0,2) a", "a a"), (0, 1, 3)):
@@ -316,7 +363,8 @@ class CoreTest(unittest.TestCase):
             ([("a", 0, 1), ("b", 0, 1), ("a", 0, 2)], [0, 2]), ([("a", 0, 1), ("a", 0, 2), ("a", 0, 3)], [0, 1]),
             ([("a", 5, 5), ("a", 0, 1), ("a a", 0, 2), ("a", 1, 3)], [1, 2, 3]), ([("m", 0, 0), ("a", 0, 0)], [0]),
             ([("o", 0, 1), ("o", 2, 3)], [0, 1]), ([("t", 0, 1), ("t", 2, 3), ("a", 0, 1), ("t", 4, 5)], [0, 1, 3]),
-            ([("a", 0, 1), ("a", 1, 2), ("a a", 0, 0), ("z", 0, 1)], [3]), ([("a b", 0, 0), ("a", 0, 1), ("b", 1, 1)], [0, 1, 2]),
+            ([("a", 0, 1), ("a", 1, 2), ("a a", 0, 0), ("z", 0, 1)], [3]),
+            ([("a b", 0, 0), ("a", 0, 1), ("b", 1, 1)], [0, 1, 2]),
             ([("a", 0, 1), ("a", 1, 2), ("a", 2, 3), ("a", 3, 4), ("a a a a", 0, 0)], [0, 1, 2, 3, 4]),
             ([("a", 0, 1), ("b", 0, 1), ("a", 2, 1), ("b", 2, 1)], [0, 2]),
         ]:
@@ -458,7 +506,8 @@ class LimitsTest(unittest.TestCase):
         for rows, least in [
             ([("a (0,1) b", 0, 0), ("b (0,2) c", 0, 0), ("c (1,2) a", 0, 0), ("a (2,3) c", 1, 1), ("c (3,4) b", 1, 1),
               ("b (0,4) a", 1, 1), ("a ~b", 2, 3), ("b ~c", 3, 4)], 5),
-            ([("a (0,1,2) b", 0, 1), ("b (1,2) a", 1, 3), ("~a (2,3) b", 2, 4), ("b b", 3, 0), ("a ~b", 4, 2), ("a a", 0, 3),
+            ([("a (0,1,2) b", 0, 1), ("b (1,2) a", 1, 3), ("~a (2,3) b", 2, 4), ("b b", 3, 0), ("a ~b", 4, 2),
+              ("a a", 0, 3),
               ("b (3,4) ~a", 1, 1), ("a (0,4) a", 2, 0)], None),
             ([("a b", 0, 1), ("c d", 1, 3), ("m n", 3, 0), ("a c", 4, 2), ("b d", 0, 3), ("m a", 1, 1), ("n b", 2, 0),
               ("c d", 0, 4)], 6),
@@ -478,7 +527,8 @@ class LimitsTest(unittest.TestCase):
             ([(" ".join(["m", known] * 16), 0, 1)], 8), ([(" ".join(["u", known] * 16), 0, 1)], 5),
             ([(" ".join(["a", known, "~a (0,2)(1,3)"] * 8), 0, 1)], 5), ([(" ".join(["a b ~a ~b"] * 4), 0, 0)], 1),
             ([(" ".join(["a (0,1) b (1,2) c (2,3) d (3,4)"] * 2), 0, 1)] * 2, 5),
-            ([("a (0,1) b (1,2) ~a (2,3) ~b", 0, 1), ("a a (0,4) b b", 1, 2), ("b (0,3) a ~b a", 2, 3), ("~a b a a", 3, 4)], 5),
+            ([("a (0,1) b (1,2) ~a (2,3) ~b", 0, 1), ("a a (0,4) b b", 1, 2), ("b (0,3) a ~b a", 2, 3),
+              ("~a b a a", 3, 4)], 5),
         ]:
             with self.subTest(rows=rows):
                 self.assertEqual(self.check(rows, Word.read(known, {})), least)
@@ -492,7 +542,8 @@ class LimitsTest(unittest.TestCase):
 
     def test_many_fillings(self):
         for rows, size, many in [
-            ([("a (0,1) a", 0, 0), ("a", 2, 2)], 8, 600), ([("s (0,1) s", 0, 0)], 11, 23580), ([("m (0,1) m", 0, 1)], 14, 10395),
+            ([("a (0,1) a", 0, 0), ("a", 2, 2)], 8, 600), ([("s (0,1) s", 0, 0)], 11, 23580),
+            ([("m (0,1) m", 0, 1)], 14, 10395),
             ([("m (0,1) m", 0, 0)], 12, 9450), ([("o (0,1) p", 0, 2)], 60, 3482), ([("t (0,1) t", 0, 2)], 14, 56),
             ([("a b c d a b c d a b c d a b c d", 0, 1)], 3, 216), ([("a b a b", 0, 0), ("b a b a", 1, 2)], 5, 432),
             ([("a", 0, 0), ("a", 1, 1)], 9, 5040), ([("u", 0, 1)], 14, 1552), ([("s", 9, 9)], 11, 9496),
@@ -509,8 +560,8 @@ def all_wires(size, kind):
     if kind == "wire":
         return math.factorial(size)
     most = int(kind.split()[1]) if " " in kind else size // 2
-    least = size // 2 if kind == "mirror" else 0
-    return sum(math.comb(size, 2 * pairs) * math.prod(range(1, 2 * pairs, 2)) for pairs in range(least, min(most, size // 2) + 1))
+    counts = range(size // 2 if kind == "mirror" else 0, min(most, size // 2) + 1)
+    return sum(math.comb(size, 2 * pairs) * math.prod(range(1, 2 * pairs, 2)) for pairs in counts)
 
 
 class InterfaceTest(unittest.TestCase):

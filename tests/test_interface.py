@@ -159,7 +159,8 @@ class InterfaceTest(unittest.TestCase):
                         self.assertEqual(str(inspect.signature(getattr(found, method))), signature)
 
     def test_static_methods_and_properties(self):
-        for found, name in [(Wire, "read"), (Word, "hole"), (Word, "known"), (Word, "same"), (Word, "read"), (Quot, "read")]:
+        for found, name in [(Wire, "read"), (Word, "hole"), (Word, "known"), (Word, "same"), (Word, "read"),
+                            (Quot, "read")]:
             self.assertIsInstance(vars(found)[name], staticmethod)
         for name in ("holes", "kinds", "named"):
             self.assertIsInstance(vars(Word)[name], property)
@@ -194,7 +195,8 @@ class WholeProgramTest(unittest.TestCase):
 
     def test_not_equal_is_the_opposite_of_equal(self):
         for one, other in [(Wire(2, []), Wire(2, [])), (Wire(2, []), Wire(3, [])), (Word.hole("a"), Word.hole("a")),
-                           (Word.hole("a"), Word.hole("b")), (Quot([1]), Quot([2], [2])), (Quot([1]), 1), (Quot([1]), 2),
+                           (Word.hole("a"), Word.hole("b")), (Quot([1]), Quot([2], [2])), (Quot([1]), 1),
+                           (Quot([1]), 2),
                            (Word.same(), Wire(1, [])), (Quot([1]), "1"), (Wire(1, []), None)]:
             self.assertIs(one != other, not one == other)
             self.assertIs(other != one, not other == one)
@@ -206,7 +208,8 @@ class WholeProgramTest(unittest.TestCase):
         rings.clear()
         kinds.clear()
         top.append(5)
-        self.assertEqual([str(wire), str(known), str(quotient), str(word)], ["4 (0,1)(2,3)", "(0,1)(2,3)", "n", "a (0,1) m"])
+        self.assertEqual([str(wire), str(known), str(quotient), str(word)],
+                         ["4 (0,1)(2,3)", "(0,1)(2,3)", "n", "a (0,1) m"])
         self.assertEqual(word.kinds, {"a": "wire", "m": "mirror"})
 
 

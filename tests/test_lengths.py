@@ -23,7 +23,8 @@ FINITE = [
     "s o", "m o", "s t", "m t", "~a o a", "~a s a", "a m ~a", "s o s", "o s o", "s m s", "m s m", "o p o", "s o p",
     "m o p", "t o t", "o p t", "z a z ~a", "a z ~a (0,1)", "~a ~b (0,1) b a", "~b (0,1) b (1,2)",
 ]
-INFINITE = ["a", "~a", "a a", "a b", "s r", "m n", "s m", "a s", "m a", "(0,1) a", "a (0,1) a", "s (0,1) r", "o a", "s o r",
+INFINITE = ["a", "~a", "a a", "a b", "s r", "m n", "s m", "a s", "m a", "(0,1) a", "a (0,1) a", "s (0,1) r", "o a",
+            "s o r",
             "~a s a s", "a (0,1) ~a a a", "a z", "~a ~b a b", "s a s", "m (0,1) n (0,2)", "~a m b", "o m t s"]
 
 
@@ -92,7 +93,8 @@ class OrderTest(unittest.TestCase):
     """Point 21."""
 
     def test_told_orders(self):
-        for text, least in [("()", 1), ("(0,1)", 2), ("(0,1)(2,3,4)", 6), ("z", 1), ("m", 2), ("s", 2), ("~a (0,1,2) a", 3),
+        for text, least in [("()", 1), ("(0,1)", 2), ("(0,1)(2,3,4)", 6), ("z", 1), ("m", 2), ("s", 2),
+                            ("~a (0,1,2) a", 3),
                             ("(0,1) ~a (0,1) a", 6), ("(0,1) s", 12), ("(0,1) o", 6), ("o p", 6), ("a z ~a", 1)]:
             with self.subTest(text=text):
                 self.assertEqual(order(word_of(text)), least)

@@ -19,7 +19,8 @@ SAME = Word.same()
 KINDS = {"a": "wire", "b": "wire", "m": "mirror", "n": "mirror", "z": "swaps 0", "o": "swaps 1", "t": "swaps 2",
          "u": "swaps 3", "s": "swaps"}
 TEXTS = [
-    "()", "(0,1)", "(0,3)(1,2)", "a", "~a", "m", "z", "o", "t", "u", "a a", "~a ~a", "a a a", "a b", "~b a", "a b ~a", "a b ~a ~b",
+    "()", "(0,1)", "(0,3)(1,2)", "a", "~a", "m", "z", "o", "t", "u", "a a", "~a ~a", "a a a", "a b", "~b a", "a b ~a",
+    "a b ~a ~b",
     "a (0,1)", "(0,1) ~a (0,1) a", "a (0,2) a", "(1,2) a a", "~a m a", "a o ~a", "m (0,1) m", "m n", "m n m n", "m o",
     "(0,2) m (0,1) m", "o (0,1) o", "o (0,1,2) o (0,1) o", "t (0,1) t (1,2) t", "o t o t", "t (0,2) o", "u (0,1,2) u",
     "a (0,1) a (0,1) a", "~a (0,1,2) a (0,1) ~a", "a (0,1,2) a (0,1,2) a (0,1,2) a", "m (0,1,2) m (0,1,2) m (0,1,2)",
@@ -103,7 +104,8 @@ class MeetingTest(Raising):
         self.assertEqual(str(meeting(M, N, 0)), "(1)/(n - 1)")
 
     def test_all_fillings_of_small_sizes(self):
-        for one, other in itertools.product(TEXTS[:20] + TEXTS[-6:], ["()", "a", "~a a a", "m", "o (0,1)", "(0,2,1) b"]):
+        for one, other in itertools.product(TEXTS[:20] + TEXTS[-6:],
+                                            ["()", "a", "~a a a", "m", "o (0,1)", "(0,2,1) b"]):
             one, other = word_of(one), word_of(other)
             for start in (0, 3):
                 found = meeting(one, other, start)
@@ -136,7 +138,8 @@ class MeanTest(unittest.TestCase):
     def test_told_quotients(self):
         for text, quotient in [
             ("()", "n"), ("(0,1)", "n - 2"), ("(0,1,4)", "n - 3"), ("a", "1"), ("a a", "2"), ("a a a a a a", "4"),
-            ("m", "0"), ("z", "n"), ("o", "(n^3 - 3*n^2 + 4*n)/(n^2 - n + 2)"), ("~a m a", "0"), ("~a (0,1) a", "n - 2"),
+            ("m", "0"), ("z", "n"), ("o", "(n^3 - 3*n^2 + 4*n)/(n^2 - n + 2)"), ("~a m a", "0"),
+            ("~a (0,1) a", "n - 2"),
             ("a (0,1)", "1"), ("~a ~b a b", "(n)/(n - 1)"),
         ]:
             with self.subTest(text=text):

@@ -53,7 +53,8 @@ class Book:
         names = sorted(kinds_of(words))
         found = Listing(Web(words), size).total(ends)
         rows = sorted([[filling[name] for name in names] for filling in found])
-        wires = {images: wire_of(images) for images in sorted(set([images for row in rows for images in row]))}
+        told = sorted(set([images for row in rows for images in row]))
+        wires = {images: wire_of(images) for images in told}
         return [{name: wires[images] for name, images in zip(names, row)} for row in rows]
 
     def share(self):

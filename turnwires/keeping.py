@@ -41,11 +41,8 @@ class Keeping:
         if held is None:
             return self.none
         strands, leads = held
-        spans = tuple([strand[:3] for strand in strands])
-        if spans not in self.groups:
-            self.groups[spans] = groups_of(self.web, spans)
         total = self.one
-        for group in self.groups[spans]:
+        for group in self.groups_in(strands):
             part = [strands[index] for index in group.indexes]
             total = self.both(total, self.worth_of(group, part, {turn: leads[turn] for turn in group.turns}))
             if not total:
@@ -55,6 +52,13 @@ class Keeping:
             if not turn.startswith("~"):
                 total = self.both(total, self.rest(turn, leads[turn]))
         return total
+
+    def groups_in(self, strands):
+        """Return the groups of the strands."""
+        spans = tuple([strand[:3] for strand in strands])
+        if spans not in self.groups:
+            self.groups[spans] = groups_of(self.web, spans)
+        return self.groups[spans]
 
     def worth_of(self, group, strands, leads):
         """Return the sum over all wires of the holes of a group with which its strands hold."""

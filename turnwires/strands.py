@@ -179,38 +179,46 @@ class Group:
         return places
 
     def mark(self, strands, leads):
-        """Return a mark that strands and leads share if they differ by the numbers of places alone.
+        """Return a mark: strands and leads that share it are the same but for the names of places.
 
-        Places that a known wire moves keep their numbers, the others get new ones in the order
-        in which they are come to from the ends of the strands. (Two such strands and leads may
-        have two marks, if there are places to which no end leads.)
+        In a mark, places that a known wire moves keep their numbers. The other ones get numbers
+        in the order in which the turns lead to them from the ends of the strands. (If there are
+        others still, what is the same may have two marks, and is done twice.)
         """
-        numbers = {(room, place): place for room in self.moved for place in self.moved[room]}
-        ends = []
+        marks = {room: {} for room in self.moved}
+        found = [(room, place) for room in self.moved for place in self.moved[room]]
+        for room, place in found:
+            marks[room][place] = place
+        roots = []
         for (room, onward), strand in zip(self.ends, strands):
-            ends.extend([(room, strand[3]), (onward, strand[4])])
-        found = list(numbers)
+            roots.extend([(room, strand[3]), (onward, strand[4])])
+        roots.extend([(room, place) for turn, room in self.rooms.items() for place in leads[turn]])
         at = 0
-        for end in [*ends, *[(room, place) for turn, room in self.rooms.items() for place in leads[turn]]]:
-            if end not in numbers:
-                numbers[end] = -1 - len(found)
-                found.append(end)
+        for room, place in roots:
+            if place not in marks[room]:
+                marks[room][place] = -1 - len(found)
+                found.append((room, place))
             while at < len(found):
-                room, place = found[at]
+                here, known = found[at]
                 at += 1
-                for turn, onward in self.doors[room]:
-                    if place in leads[turn]:
-                        image = (onward, leads[turn][place])
-                        if image not in numbers:
-                            numbers[image] = -1 - len(found)
-                            found.append(image)
+                for turn, there in self.doors[here]:
+                    if known in leads[turn] and leads[turn][known] not in marks[there]:
+                        marks[there][leads[turn][known]] = -1 - len(found)
+                        found.append((there, leads[turn][known]))
+        return self.spans, self.marked(strands, leads, marks)
+
+    def marked(self, strands, leads, marks):
+        """Return the ends and the leads with the marks of the places, by their rooms."""
+        ends = [(marks[room][strand[3]], marks[onward][strand[4]])
+                for (room, onward), strand in zip(self.ends, strands)]
         maps = []
         for room in self.doors:
             for turn, onward in self.doors[room]:
                 if not turn.startswith("~"):
-                    row = [(numbers[room, place], numbers[onward, leads[turn][place]]) for place in leads[turn]]
+                    here, there = marks[room], marks[onward]
+                    row = [(here[place], there[image]) for place, image in leads[turn].items()]
                     maps.append(tuple(sorted(row)))
-        return self.spans, tuple([numbers[end] for end in ends]), tuple(maps)
+        return tuple(ends), tuple(maps)
 
 
 def groups_of(web, spans):
