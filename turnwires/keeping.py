@@ -84,21 +84,25 @@ class Keeping:
         return total
 
     def narrowest(self, group, strands, leads):
-        """Return the end with the fewest choices, these, and how many places stand in the room.
+        """Return an end with few choices, these, and how many places stand in the room.
 
         An end is told by the index of its strand, if it is the left one, the turn to fix and
         the place that it leads.
         """
         places = group.places_by_room(strands, leads)
         best = None
+        least = 0
         for index, (number, first, last, left, right) in enumerate(strands):
             turns = self.web.rows[number].turns
             back = self.web.opposites[turns[last - 1]]
             for end in [(index, True, turns[first], left), (index, False, back, right)]:
                 room = group.rooms[self.web.opposites[end[2]]]
                 images = self.web.free_images(end[2], end[3], places[room], leads)
-                if best is None or len(images) < len(best[1]):
+                # Short strands come first if the choices are about as many: they are done soon.
+                cost = 2 * len(images) + last - first
+                if best is None or cost < least:
                     best = end, images, len(places[room])
+                    least = cost
         return best
 
     def sum_behind(self, end, image, strands, leads):
