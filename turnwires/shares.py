@@ -70,10 +70,11 @@ def uses_in(words):
 
 
 class Sharing(Keeping):
-    """The number of the fillings for all sizes n at once, in the part of all that they are.
+    """The number of the fillings for all sizes n at once, as a polynomial in n.
 
-    The wires of a hole are counted in units that make their number a polynomial in n, whatever
-    is fixed of at most as many places as the hole has uses: `whole` tells it for all fillings.
+    The wires of each hole are counted in a unit of their own, which depends on n alone. So
+    their number is a polynomial in n, whatever the uses of the hole fix. `whole` tells the
+    number of all fillings in the same units.
     """
 
     def __init__(self, words):
