@@ -44,7 +44,9 @@ class Book:
         """Return the number of the fillings of this size that keep the book."""
         words, ends = self._words(), self._ends()
         check_size(size, words, numbers_in(ends))
-        return Counting(Web(words), size).total(ends)
+        web = Web(words)
+        # To ask takes far less time than to count, and settles it if the sightings contradict one another.
+        return Counting(web, size).total(ends) if Asking(web, size).total(ends) else 0
 
     def fits(self, size):
         """Return all fillings of this size that keep the book, in their order."""

@@ -41,17 +41,26 @@ class Keeping:
         if held is None:
             return self.none
         strands, leads = held
-        total = self.one
+        parts = []
         for group in self.groups_in(strands):
             part = [strands[index] for index in group.indexes]
-            total = self.both(total, self.worth_of(group, part, {turn: leads[turn] for turn in group.turns}))
+            parts.append((group, part, {turn: leads[turn] for turn in group.turns}))
+            leads = {turn: leads[turn] for turn in leads if turn not in group.rooms}
+        if self.is_hopeless(parts):
+            return self.none
+        total = self.one
+        for group, part, known in parts:
+            total = self.both(total, self.worth_of(group, part, known))
             if not total:
                 return total
-            leads = {turn: leads[turn] for turn in leads if turn not in group.rooms}
         for turn in leads:
             if not turn.startswith("~"):
                 total = self.both(total, self.rest(turn, leads[turn]))
         return total
+
+    def is_hopeless(self, parts):
+        """Tell if it is known that one of the parts, each a group, its strands and its leads, cannot hold."""
+        return False
 
     def groups_in(self, strands):
         """Return the groups of the strands."""

@@ -13,14 +13,19 @@ class Listing(Keeping):
         self.size = size
         self.asking = Asking(web, size)
 
+    def is_hopeless(self, parts):
+        """Tell if it is known that one of the parts, each a group, its strands and its leads, cannot hold."""
+        # All parts are asked before one is listed: what one part alone allows can be far more
+        # than there is memory for, although another part allows nothing.
+        return not all([self.asking.worth_of(group, strands, leads) for group, strands, leads in parts])
+
     def worth_of(self, group, strands, leads):
         """Return the sum over all wires of the holes of a group with which its strands hold."""
         # Here places that nobody named are told apart, so that each one has its own number.
         maps = [tuple(sorted(list(leads[turn].items()))) for turn in group.turns]
         mark = tuple(strands), tuple(maps)
         if mark not in self.sums:
-            holds = self.asking.worth_of(group, strands, leads)
-            self.sums[mark] = self.summed(group, strands, leads) if holds else []
+            self.sums[mark] = self.summed(group, strands, leads)
         return self.sums[mark]
 
     def summed(self, group, strands, leads):

@@ -1,7 +1,7 @@
 """Shares: the part of all fillings with which words lead places to places, as a quotient."""
 
 from turnwires.errors import NoShare
-from turnwires.keeping import Keeping
+from turnwires.keeping import Asking, Keeping
 from turnwires.quotients import Quot, added, multiplied
 from turnwires.strands import Web
 from turnwires.ways import least_unseen, pairs_in
@@ -49,7 +49,9 @@ def share_of(words, ends):
         kinds.update(word.kinds)
     check_bounds(kinds)
     sharing = Sharing(words)
-    return Quot(sharing.total(ends), sharing.whole())
+    # To ask takes far less time than to count, and settles it if the words contradict one another.
+    top = sharing.total(ends) if Asking(sharing.web).total(ends) else []
+    return Quot(top, sharing.whole())
 
 
 def check_bounds(kinds):
